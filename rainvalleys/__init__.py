@@ -1,0 +1,1 @@
+"""Exact rain on a profile of columns."""
