@@ -91,6 +91,21 @@ class FilesTest(unittest.TestCase):
             for alias in node.names:
                 self.assertIn(alias.name, defined, path)
 
+    def test_no_two_files_import_from_each_other(self):
+        sources = {path.stem: {node.module.removeprefix("rainvalleys.") for node in ast.walk(tree)
+                               if isinstance(node, ast.ImportFrom)} for path, tree in TREES.items()}
+        while sources:
+            free = [name for name, needed in sources.items() if not needed & set(sources)]
+            self.assertTrue(free, sources)
+            sources = {name: needed for name, needed in sources.items() if name not in free}
+
+    def test_each_import_is_used(self):
+        for path, tree in TREES.items():
+            read = {node.id for node in ast.walk(tree) if isinstance(node, ast.Name)}
+            for node in tree.body:
+                if isinstance(node, ast.ImportFrom):
+                    self.assertEqual({alias.name for alias in node.names} - read, set(), path)
+
     def test_module_level(self):
         for path, tree in TREES.items():
             for item in tree.body:
@@ -129,6 +144,31 @@ class NamesTest(unittest.TestCase):
         self.assertEqual(read - known - {"__init__"}, set())
 
 
+    def test_no_local_name_hides_a_class_or_an_import(self):
+        for path, tree in TREES.items():
+            barred = {alias.name for node in tree.body if isinstance(node, ast.ImportFrom) for alias in node.names}
+            barred |= {node.name for node in tree.body if isinstance(node, ast.ClassDef)}
+            bound = {node.arg for node in ast.walk(tree) if isinstance(node, ast.arg)}
+            bound |= {node.id for node in ast.walk(tree) if isinstance(node, ast.Name)
+                      and isinstance(node.ctx, ast.Store)}
+            self.assertEqual(barred & bound, set(), path)
+
+    def test_no_property_has_the_name_of_a_method_or_of_a_stored_attribute(self):
+        found = {node.name for node in methods() if [name for name in node.decorator_list
+                                                     if isinstance(name, ast.Name) and name.id == "property"]}
+        stored = {node.attr for path, node in nodes(ast.Attribute) if isinstance(node.ctx, ast.Store)}
+        self.assertEqual(found & (stored | plain_methods() | ALLOWED_METHODS), set())
+
+    def test_no_generator_shares_its_name(self):
+        functions = [node for path, node in nodes(ast.FunctionDef)]
+        yielding = [node.name for node in functions
+                    if [part for part in ast.walk(node) if isinstance(part, (ast.Yield, ast.YieldFrom))]]
+        names = [node.name for node in functions]
+        for name in yielding:
+            self.assertEqual(names.count(name), 1)
+            self.assertNotIn(name, ALLOWED_METHODS)
+
+
 class SyntaxTest(unittest.TestCase):
     def test_statements_and_operators(self):
         self.assertEqual(nodes(BARRED_NODES), [])
@@ -152,6 +192,23 @@ class SyntaxTest(unittest.TestCase):
                 for node in ast.walk(method):
                     self.assertNotIsInstance(node, (ast.Assign, ast.Delete, ast.NamedExpr), method.name)
                 self.assertIsInstance(method.body[-1], ast.Return)
+
+    def test_no_generator_expression_and_no_error_that_is_caught(self):
+        self.assertEqual(nodes((ast.GeneratorExp, ast.Try, ast.With, ast.Match, ast.Lambda)), [])
+
+    def test_iterators_are_iterated_on_the_spot(self):
+        spots = [node.iter for path, node in nodes((ast.For, ast.comprehension))]
+        spots += [node.args[0] for path, node in nodes(ast.Call) if node.args and isinstance(node.func, ast.Name)
+                  and node.func.id in ("list", "tuple", "sorted")]
+        for path, node in nodes(ast.Call):
+            name = node.func.attr if isinstance(node.func, ast.Attribute) else node.func.id
+            if name in ("zip", "enumerate", "range", "reversed", "items", "keys", "values", "events"):
+                self.assertIn(node, spots, (path, ast.unparse(node)))
+
+    def test_sums_of_other_numbers_than_literals_are_written_out(self):
+        """With a class that has a reflected sum, an operator and what it calls may use += with a literal only."""
+        for path, node in nodes(ast.AugAssign):
+            self.assertIsInstance(node.value, ast.Constant, (path, ast.unparse(node)))
 
     def test_order_and_sorting(self):
         """With classes that compare, sort and the like are given only what is plainly numbers or strings."""

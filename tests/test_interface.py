@@ -1,0 +1,59 @@
+"""The names and arguments of the document's interface, as far as it has landed."""
+
+import importlib
+import inspect
+import unittest
+
+FUNCTIONS = {
+    "valleys": {"peaks": "(profile)", "valleys": "(profile)", "rims": "(profile, valley)", "lakes": "(profile)"},
+    "volumes": {"volume_up_to": "(profile, first, last, level)", "level_for": "(profile, first, last, volume)"},
+    "courses": {"course": "(flood, amount, *, weights=None)",
+                "check_course": "(flood, amount, course, *, weights=None)"},
+    "amounts": {"events": "(profile)", "flood_after": "(profile, amount)", "end_surfaces": "(profile)",
+                "end_volume": "(profile)", "end_amount": "(profile)", "amount_to_reach": "(profile, column, depth)",
+                "amount_to_exceed": "(profile, column, depth)", "amount_to_store": "(profile, volume)",
+                "fitting_amounts": "(profile, observations)"},
+}
+METHODS = {
+    ("ratios", "Ratio"): {"__init__": "(self, numerator, denominator=1)", "over": "(self, other)", "floor": "(self)"},
+    ("profiles", "Profile"): {"__init__": "(self, heights, widths=None)", "mirrored": "(self)",
+                              "scaled": "(self, height=1, width=1)", "raised": "(self, column, height)"},
+    ("floods", "Flood"): {"__init__": "(self, profile)", "rain": "(self, amount, *, weights=None)",
+                          "pour": "(self, column, volume)", "pump": "(self, column, volume)", "dry": "(self, depth)",
+                          "levels": "(self)", "bodies": "(self)", "is_full": "(self, valley)",
+                          "surface": "(self, column)", "depth": "(self, column)", "clone": "(self)"},
+}
+PROPERTIES = {
+    ("ratios", "Ratio"): ["top", "bottom"],
+    ("profiles", "Profile"): ["heights", "widths"],
+    ("floods", "Flood"): ["stored", "left", "right", "taken", "profile"],
+}
+
+
+def module(name):
+    return importlib.import_module("rainvalleys." + name)
+
+
+class InterfaceTest(unittest.TestCase):
+    def test_functions(self):
+        for file, functions in FUNCTIONS.items():
+            for name, arguments in functions.items():
+                function = vars(module(file))[name]
+                self.assertEqual(str(inspect.signature(function)), arguments, name)
+                self.assertEqual(function.__module__, "rainvalleys." + file)
+
+    def test_methods_stand_in_the_class_itself(self):
+        for (file, name), methods in METHODS.items():
+            found = vars(module(file))[name]
+            self.assertEqual(found.__module__, "rainvalleys." + file)
+            for method, arguments in methods.items():
+                self.assertEqual(str(inspect.signature(vars(found)[method])), arguments, method)
+
+    def test_properties_stand_in_the_class_itself(self):
+        for (file, name), properties in PROPERTIES.items():
+            for attribute in properties:
+                self.assertIsInstance(vars(vars(module(file))[name])[attribute], property)
+
+
+if __name__ == "__main__":
+    unittest.main()
