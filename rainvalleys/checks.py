@@ -38,6 +38,12 @@ def check_column(profile, value):
         raise InvalidColumn(value)
 
 
+def are_weights(profile, value):
+    """Whether the value is a list or tuple with a weight for each column of the profile."""
+    many = len(profile)
+    return is_row(value, many, many) and first_outside(value, 0, GREATEST) is None
+
+
 def checked_weights(profile, weights):
     """The weights of the columns as a list; None means that all are 1."""
     many = len(profile)

@@ -1,17 +1,15 @@
 """Courses: everything that happens during rain, told in steps that can be checked."""
 
-from rainvalleys.basins import Basins
 from rainvalleys.checks import checked_amount, checked_weights
 from rainvalleys.integers import is_whole
 from rainvalleys.ratios import as_ratio
-from rainvalleys.showers import Shower, rain_rates
+from rainvalleys.showers import rain_rates
 
 
 def shower_on(flood, weights):
     """Rain with these weights that begins to fall on a flood, which stays as it is."""
     profile = flood.profile
-    rates = rain_rates(profile, checked_weights(profile, weights))
-    return Shower(Basins(profile), flood.levels(), rates)
+    return flood.shower(rain_rates(profile, checked_weights(profile, weights)))
 
 
 def step_of(shower):

@@ -105,12 +105,20 @@ class Flood:
 
     def receive(self, rates, end):
         """Let water fall with these rates for the columns and return the events."""
-        shower = Shower(self.basins, self.valley_levels, rates)
+        shower = self.shower(rates)
         found = shower.fall(end)
+        self.settle(shower)
+        return found
+
+    def shower(self, rates):
+        """Water that begins to fall with these rates on a flood like this one."""
+        return Shower(self.basins, self.valley_levels, rates)
+
+    def settle(self, shower):
+        """Become what the flood is after all that fell in this shower."""
         self.valley_levels = shower.present_levels()
         self.left_volume = self.left_volume + shower.left_gone
         self.right_volume = self.right_volume + shower.right_gone
-        return found
 
     def pump(self, column, volume):
         """Take water away at a column and return its volume."""
@@ -173,13 +181,19 @@ class Flood:
         """How deep a column is under water."""
         return self.surface(column) - self.basins.ground.heights[column]
 
+    def snapshot(self):
+        """All that may change, as a tuple to which the flood, or one on an equal profile, can return."""
+        return tuple(self.valley_levels), self.left_volume, self.right_volume, self.taken_volume
+
+    def return_to(self, snapshot):
+        """Become as the flood was when this snapshot was made."""
+        levels, self.left_volume, self.right_volume, self.taken_volume = snapshot
+        self.valley_levels = list(levels)
+
     def clone(self):
         """An independent copy."""
         twin = Flood(self.basins.ground)
-        twin.valley_levels = list(self.valley_levels)
-        twin.left_volume = self.left_volume
-        twin.right_volume = self.right_volume
-        twin.taken_volume = self.taken_volume
+        twin.return_to(self.snapshot())
         return twin
 
     def __contains__(self, x):

@@ -84,26 +84,17 @@ def changes(when, before, pools):
     return joined + filled
 
 
-def fallen_between(rates, first, last):
-    """What falls on the columns from the first to the last one, per amount."""
-    return Ratio(sum(rates[first:last + 1]))
-
-
-def half_of_peak(basins, rates, peak):
-    """What a peak that is not inside a body gives to each of its sides, per amount."""
-    first, last = basins.summits[peak]
-    return fallen_between(rates, first, last) * Ratio(1, 2)
-
-
 class Shower:
     """The state of a flood while water falls, from a moment at which something happens to the next one.
 
-    The rates tell for each column what falls on it per amount.
+    The rates tell for each column what falls on it per amount. What arrives from elsewhere is a list of tuples of a
+    column and a rate that may be a fraction.
     """
 
     def __init__(self, basins, levels, rates):
         self.basins = basins
         self.rates = rates
+        self.arriving = []
         self.now = Ratio(0)
         self.left_gone = Ratio(0)
         self.right_gone = Ratio(0)
@@ -128,24 +119,41 @@ class Shower:
             carried = pool.spill_left()
         self.left_rate = carried + self.fallen_left()
 
+    def let_arrive(self, arriving):
+        """Let other water arrive from elsewhere from now on."""
+        self.arriving = arriving
+        self.share_out()
+
+    def fallen_between(self, first, last):
+        """What falls on the columns from the first to the last one, per amount."""
+        total = Ratio(sum(self.rates[first:last + 1]))
+        for column, rate in self.arriving:
+            if first <= column <= last:
+                total = total + rate
+        return total
+
+    def half_of_peak(self, peak):
+        """What a peak that is not inside a body gives to each of its sides, per amount."""
+        first, last = self.basins.summits[peak]
+        return self.fallen_between(first, last) * Ratio(1, 2)
+
     def fallen_on(self, pool):
         """What a body receives per amount without what other bodies pass on."""
         first, last = columns_of(self.basins, pool.first, pool.last)
-        left = half_of_peak(self.basins, self.rates, pool.first)
-        right = half_of_peak(self.basins, self.rates, pool.last + 1)
-        return left + fallen_between(self.rates, first, last) + right
+        left = self.half_of_peak(pool.first)
+        right = self.half_of_peak(pool.last + 1)
+        return left + self.fallen_between(first, last) + right
 
     def fallen_left(self):
         """What falls outside the bodies and leaves at the left end, per amount."""
         first, last = self.basins.summits[0]
-        return fallen_between(self.rates, 0, first - 1) + half_of_peak(self.basins, self.rates, 0)
+        return self.fallen_between(0, first - 1) + self.half_of_peak(0)
 
     def fallen_right(self):
         """What falls outside the bodies and leaves at the right end, per amount."""
         peak = len(self.basins.summits) - 1
         first, last = self.basins.summits[peak]
-        outside = fallen_between(self.rates, last + 1, len(self.rates) - 1)
-        return outside + half_of_peak(self.basins, self.rates, peak)
+        return self.fallen_between(last + 1, len(self.rates) - 1) + self.half_of_peak(peak)
 
     def until_change(self):
         """The amount until the next body gets full, or None if nothing happens any more."""
@@ -165,8 +173,10 @@ class Shower:
         self.left_gone = self.left_gone + self.left_rate * span
         self.right_gone = self.right_gone + self.right_rate * span
         self.pools = [united(self.basins, group) for group in grouped(self.pools)]
-        self.share_out()
-        return changes(self.now, before, self.pools)
+        found = changes(self.now, before, self.pools)
+        if found:
+            self.share_out()
+        return found
 
     def next_span(self, end):
         """How much can fall until the next change, but not beyond the end."""

@@ -101,30 +101,45 @@ class Oracle:
                     give(place, Fraction(rate, len(places)))
         return found[1:-1], found[0], found[-1]
 
+    def speeds(self, gains):
+        """How fast the level of each body rises per amount."""
+        found = []
+        for body, gain in zip(self.bodies(), gains):
+            level = self.level(body)
+            wide = sum(self.widths[column] for column in self.columns(body) if self.heights[column] <= level)
+            found.append(Fraction(0) if self.is_full(body) else gain / wide)
+        return found
+
+    def reach(self, gains, rest):
+        """How much of the rest can fall until a level gets to the height of a column or a rim."""
+        span = rest
+        for body, speed in zip(self.bodies(), self.speeds(gains)):
+            if speed:
+                level = self.level(body)
+                marks = [self.heights[column] for column in self.columns(body)] + list(self.rims(body))
+                span = min(span, (min(mark for mark in marks if mark > level) - level) / speed)
+        return span
+
+    def move(self, gains, left, right, span):
+        """Raise the levels for a part of the amount and return the events at its end, without their moment."""
+        bodies = self.bodies()
+        full = [body for body in bodies if self.is_full(body)]
+        for body, speed in zip(bodies, self.speeds(gains)):
+            for valley in range(body[0], body[1] + 1):
+                self.levels[valley] += speed * span
+        self.out = [self.out[0] + left * span, self.out[1] + right * span]
+        found = [("joined", *body) for body in self.bodies() if body not in bodies]
+        return found + [("full", *body) for body in self.bodies() if self.is_full(body) and body not in full]
+
     def fall(self, rates, amount):
         """Let water fall and return the events."""
         now = Fraction(0)
         found = []
         while now < amount:
-            bodies = self.bodies()
-            full = [body for body in bodies if self.is_full(body)]
             gains, left, right = self.gains(rates)
-            span = amount - now
-            speeds = []
-            for body, gain in zip(bodies, gains):
-                level = self.level(body)
-                wide = sum(self.widths[column] for column in self.columns(body) if self.heights[column] <= level)
-                speeds.append(Fraction(0) if body in full else gain / wide)
-                if speeds[-1]:
-                    marks = [self.heights[column] for column in self.columns(body)] + list(self.rims(body))
-                    span = min(span, (min(mark for mark in marks if mark > level) - level) / speeds[-1])
-            for body, speed in zip(bodies, speeds):
-                for valley in range(body[0], body[1] + 1):
-                    self.levels[valley] += speed * span
-            self.out = [self.out[0] + left * span, self.out[1] + right * span]
+            span = self.reach(gains, amount - now)
             now += span
-            found += [(now, "joined", *body) for body in self.bodies() if body not in bodies]
-            found += [(now, "full", *body) for body in self.bodies() if self.is_full(body) and body not in full]
+            found += [(now, *event) for event in self.move(gains, left, right, span)]
         return found
 
     def rain(self, amount, weights=None):
@@ -162,3 +177,60 @@ class Oracle:
         self.levels = [max(level - depth, Fraction(bottom)) for level, bottom in zip(self.levels, self.bottoms)]
         self.taken += before - self.stored()
         return before - self.stored()
+
+
+class CascadeOracle:
+    """Several such floods that give water to each other; all of them move from mark to mark together."""
+
+    def __init__(self, profiles, links):
+        self.parts = {name: Oracle(heights, widths) for name, (heights, widths) in profiles.items()}
+        self.links = links
+
+    def flows(self, rates):
+        """What each part gains, and what leaves it at its ends, by name. Givers are asked for on demand."""
+        found = {}
+
+        def flow(name):
+            if name not in found:
+                here = list(rates[name])
+                for (giver, side), (taker, column) in self.links.items():
+                    if taker == name:
+                        here[column] += flow(giver)[1 if side == "left" else 2]
+                found[name] = self.parts[name].gains(here)
+            return found[name]
+
+        for name in self.parts:
+            flow(name)
+        return found
+
+    def fall(self, rates, amount):
+        """Let water fall with these rates for each name, and return the events."""
+        now = Fraction(0)
+        found = []
+        while now < amount:
+            flows = self.flows(rates)
+            span = min(part.reach(flows[name][0], amount - now) for name, part in self.parts.items())
+            now += span
+            for name in sorted(self.parts):
+                found += [(now, word, name, first, last)
+                          for word, first, last in self.parts[name].move(*flows[name], span)]
+        return found
+
+    def rain(self, amount, weights=None):
+        rates = {}
+        for name, part in self.parts.items():
+            here = (weights or {}).get(name, [1] * len(part.heights))
+            rates[name] = [width * weight for width, weight in zip(part.widths, here)]
+        return self.fall(rates, amount)
+
+    def pour(self, name, column, volume):
+        rates = {other: [0] * len(part.heights) for other, part in self.parts.items()}
+        rates[name][column] = 1
+        return self.fall(rates, volume)
+
+    def stored(self):
+        return sum(part.stored() for part in self.parts.values())
+
+    def gone(self):
+        return sum((part.out[at] for name, part in self.parts.items() for at, side in enumerate(["left", "right"])
+                    if (name, side) not in self.links), Fraction(0))

@@ -13,6 +13,8 @@ FUNCTIONS = {
                 "end_volume": "(profile)", "end_amount": "(profile)", "amount_to_reach": "(profile, column, depth)",
                 "amount_to_exceed": "(profile, column, depth)", "amount_to_store": "(profile, volume)",
                 "fitting_amounts": "(profile, observations)"},
+    "dams": {"dam_gain": "(profile, column, height)", "best_dam": "(profile, height)"},
+    "tables": {"table": "(flood)"},
 }
 METHODS = {
     ("ratios", "Ratio"): {"__init__": "(self, numerator, denominator=1)", "over": "(self, other)", "floor": "(self)"},
@@ -21,12 +23,24 @@ METHODS = {
     ("floods", "Flood"): {"__init__": "(self, profile)", "rain": "(self, amount, *, weights=None)",
                           "pour": "(self, column, volume)", "pump": "(self, column, volume)", "dry": "(self, depth)",
                           "levels": "(self)", "bodies": "(self)", "is_full": "(self, valley)",
-                          "surface": "(self, column)", "depth": "(self, column)", "clone": "(self)"},
+                          "surface": "(self, column)", "depth": "(self, column)", "clone": "(self)",
+                          "__contains__": "(self, x)", "__eq__": "(self, other)"},
+    ("tables", "Gauge"): {"__init__": "(self, column)", "__call__": "(self, flood)", "__eq__": "(self, other)"},
+    ("session", "Session"): {"__init__": "(self, profile)", "rain": "(self, amount, *, weights=None)",
+                             "pour": "(self, column, volume)", "pump": "(self, column, volume)",
+                             "dry": "(self, depth)", "flood": "(self)", "undo": "(self, count=1)",
+                             "redo": "(self, count=1)", "history": "(self)", "preview": "(self, operations)",
+                             "clone": "(self)", "__eq__": "(self, other)", "__len__": "(self)"},
+    ("cascades", "Cascade"): {"__init__": "(self, profiles, links)", "rain": "(self, amount, *, weights=None)",
+                              "pour": "(self, name, column, volume)", "flood": "(self, name)", "names": "(self)",
+                              "clone": "(self)", "__eq__": "(self, other)"},
 }
 PROPERTIES = {
     ("ratios", "Ratio"): ["top", "bottom"],
     ("profiles", "Profile"): ["heights", "widths"],
     ("floods", "Flood"): ["stored", "left", "right", "taken", "profile"],
+    ("tables", "Gauge"): ["column"],
+    ("cascades", "Cascade"): ["stored", "gone"],
 }
 
 

@@ -193,8 +193,23 @@ class SyntaxTest(unittest.TestCase):
                     self.assertNotIsInstance(node, (ast.Assign, ast.Delete, ast.NamedExpr), method.name)
                 self.assertIsInstance(method.body[-1], ast.Return)
 
-    def test_no_generator_expression_and_no_error_that_is_caught(self):
-        self.assertEqual(nodes((ast.GeneratorExp, ast.Try, ast.With, ast.Match, ast.Lambda)), [])
+    def test_no_generator_expression_and_the_like(self):
+        self.assertEqual(nodes((ast.GeneratorExp, ast.With, ast.Match, ast.Lambda)), [])
+
+    def test_only_own_errors_are_caught(self):
+        errors = {node.name for node in TREES[FOLDER / "errors.py"].body if isinstance(node, ast.ClassDef)}
+        for path, node in nodes(ast.Try):
+            self.assertEqual(node.finalbody, [])
+        for path, node in nodes(ast.ExceptHandler):
+            caught = node.type.elts if isinstance(node.type, ast.Tuple) else [node.type]
+            self.assertTrue({name.id for name in caught} <= errors, ast.unparse(node))
+            self.assertIsNone(node.name)
+
+    def test_errors_are_created_where_they_are_raised(self):
+        errors = {node.name for node in TREES[FOLDER / "errors.py"].body if isinstance(node, ast.ClassDef)}
+        for path, node in nodes(ast.Raise):
+            self.assertIn(node.exc.func.id, errors)
+            self.assertTrue(node.cause is None or ast.unparse(node.cause) == "None")
 
     def test_iterators_are_iterated_on_the_spot(self):
         spots = [node.iter for path, node in nodes((ast.For, ast.comprehension))]
@@ -214,7 +229,7 @@ class SyntaxTest(unittest.TestCase):
         """With classes that compare, sort and the like are given only what is plainly numbers or strings."""
         for path, node in nodes(ast.Call):
             if isinstance(node.func, ast.Name) and node.func.id in ("sorted", "min", "max"):
-                self.assertRegex(ast.unparse(node), r"\b(int|len)\(", path)
+                self.assertRegex(ast.unparse(node), r"\b(int|len|str)\(", path)
             if isinstance(node.func, ast.Attribute):
                 self.assertNotEqual(node.func.attr, "sort")
 
