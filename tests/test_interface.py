@@ -1,4 +1,4 @@
-"""The names and arguments of the document's interface, as far as it has landed."""
+"""The names and arguments of the document's interface."""
 
 import importlib
 import inspect
@@ -15,11 +15,20 @@ FUNCTIONS = {
                 "fitting_amounts": "(profile, observations)"},
     "dams": {"dam_gain": "(profile, column, height)", "best_dam": "(profile, height)"},
     "tables": {"table": "(flood)"},
+    "scripts": {"tokens": "(text)", "parse_script": "(text)", "script_text": "(statements)",
+                "run_script": "(flood, text, *, limit=1000)"},
+    "journals": {"journal": "(session)", "recovered": "(text)"},
+    "texts": {"profile_text": "(profile)", "parse_profile": "(text)", "flood_text": "(flood)"},
 }
 METHODS = {
-    ("ratios", "Ratio"): {"__init__": "(self, numerator, denominator=1)", "over": "(self, other)", "floor": "(self)"},
+    ("ratios", "Ratio"): {"__init__": "(self, numerator, denominator=1)", "over": "(self, other)", "floor": "(self)",
+                          **{f"__{name}__": "(self, other)" for name in (
+                              "add radd sub rsub mul rmul lt le gt ge eq ne").split()},
+                          **{f"__{name}__": "(self)" for name in "neg abs bool str repr".split()}},
     ("profiles", "Profile"): {"__init__": "(self, heights, widths=None)", "mirrored": "(self)",
-                              "scaled": "(self, height=1, width=1)", "raised": "(self, column, height)"},
+                              "scaled": "(self, height=1, width=1)", "raised": "(self, column, height)",
+                              "__add__": "(self, other)", "__eq__": "(self, other)", "__len__": "(self)",
+                              "__repr__": "(self)"},
     ("floods", "Flood"): {"__init__": "(self, profile)", "rain": "(self, amount, *, weights=None)",
                           "pour": "(self, column, volume)", "pump": "(self, column, volume)", "dry": "(self, depth)",
                           "levels": "(self)", "bodies": "(self)", "is_full": "(self, valley)",
@@ -34,6 +43,7 @@ METHODS = {
     ("cascades", "Cascade"): {"__init__": "(self, profiles, links)", "rain": "(self, amount, *, weights=None)",
                               "pour": "(self, name, column, volume)", "flood": "(self, name)", "names": "(self)",
                               "clone": "(self)", "__eq__": "(self, other)"},
+    ("console", "Console"): {"__init__": "(self)", "execute": "(self, command)", "__len__": "(self)"},
 }
 PROPERTIES = {
     ("ratios", "Ratio"): ["top", "bottom"],
@@ -62,6 +72,17 @@ class InterfaceTest(unittest.TestCase):
             self.assertEqual(found.__module__, "rainvalleys." + file)
             for method, arguments in methods.items():
                 self.assertEqual(str(inspect.signature(vars(found)[method])), arguments, method)
+
+    def test_parse_is_a_class_method(self):
+        found = vars(module("ratios").Ratio)["parse"]
+        self.assertIsInstance(found, classmethod)
+        self.assertEqual(str(inspect.signature(module("ratios").Ratio.parse)), "(text)")
+
+    def test_all_files_of_the_interface(self):
+        files = {*FUNCTIONS, *[file for file, name in METHODS], "errors"}
+        self.assertEqual(len(files), 16)
+        for file in files:
+            self.assertEqual(module(file).__name__, "rainvalleys." + file)
 
     def test_properties_stand_in_the_class_itself(self):
         for (file, name), properties in PROPERTIES.items():

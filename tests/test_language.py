@@ -169,7 +169,58 @@ class NamesTest(unittest.TestCase):
             self.assertNotIn(name, ALLOWED_METHODS)
 
 
+    def test_no_own_name_is_one_of_builtin_values(self):
+        """Attributes and methods may have names of strings, lists and the like only where the rules allow it."""
+        stored = {node.attr for path, node in nodes(ast.Attribute) if isinstance(node.ctx, ast.Store)}
+        own = stored | {node.name for node in methods()}
+        builtin = {name for kind in (int, str, bytes, list, tuple, dict, set) for name in dir(kind)}
+        self.assertEqual({name for name in own & builtin if not name.startswith("__")} - {"index", "count"}, set())
+        self.assertEqual(own & {"args", "format", "hex", "encode", "decode", "open", "input"}, set())
+
+
 class SyntaxTest(unittest.TestCase):
+    def check_plain(self, node):
+        if isinstance(node, (ast.Tuple, ast.List)):
+            for part in node.elts:
+                self.assertNotIsInstance(part, (ast.List, ast.Dict))
+                self.check_plain(part)
+        elif isinstance(node, ast.Dict):
+            for part in [*node.keys, *node.values]:
+                self.assertNotIsInstance(part, (ast.List, ast.Dict))
+                self.check_plain(part)
+        elif isinstance(node, ast.BinOp):
+            self.assertEqual(ast.unparse(node), "10 ** 30")
+        else:
+            self.assertIsInstance(node, ast.Constant)
+
+    def test_values_at_module_level_are_plain(self):
+        for path, tree in TREES.items():
+            for item in tree.body:
+                if isinstance(item, ast.Assign):
+                    self.assertEqual(len(item.targets), 1)
+                    self.check_plain(item.value)
+
+    def test_keywords_of_builtins(self):
+        own = {node.name for path, node in nodes((ast.FunctionDef, ast.ClassDef))}
+        for path, node in nodes(ast.Call):
+            name = node.func.attr if isinstance(node.func, ast.Attribute) else node.func.id
+            if node.keywords and name not in own:
+                self.assertEqual([name, *[keyword.arg for keyword in node.keywords]], ["sum", "start"])
+
+    def test_powers_have_literal_exponents(self):
+        for path, node in nodes(ast.BinOp):
+            if isinstance(node.op, ast.Pow):
+                self.assertTrue(0 <= node.right.value <= 64)
+
+    def test_strings(self):
+        for path, node in nodes(ast.Constant):
+            if isinstance(node.value, str):
+                self.assertFalse(node.value.endswith(("._", ".__")))
+                self.assertNotRegex(node.value, "^__.*__$")
+        for path, node in nodes(ast.JoinedStr):
+            inner = [part for value in node.values if isinstance(value, ast.FormattedValue) for part in ast.walk(value.value)]
+            self.assertFalse(any(isinstance(part, ast.Constant) and isinstance(part.value, str) for part in inner))
+
     def test_statements_and_operators(self):
         self.assertEqual(nodes(BARRED_NODES), [])
 
