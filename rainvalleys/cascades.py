@@ -39,7 +39,7 @@ def is_link(profiles, key, target):
         return False
     name, side = key
     other, column = target
-    if name not in profiles or not isinstance(side, str) or side not in SIDES:
+    if name not in profiles or side not in SIDES:
         return False
     return other in profiles and other != name and is_column(profiles[other], column)
 

@@ -30,9 +30,14 @@ def check_after(check, text):
     return check
 
 
+def is_too_long(part):
+    """Whether an integer has too many digits. Its bits come first: Python does not write much longer integers."""
+    return part.bit_length() > 4 * MOST_DIGITS or len(str(part)) > MOST_DIGITS
+
+
 def number_text(number):
     """The text of a number that a journal can hold."""
-    if len(str(number.top)) > MOST_DIGITS or len(str(number.bottom)) > MOST_DIGITS:
+    if is_too_long(number.top) or is_too_long(number.bottom):
         raise LimitExceeded(MOST_DIGITS)
     return str(number)
 

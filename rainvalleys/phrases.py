@@ -14,35 +14,31 @@ def strength_of(expression):
     return ATOM
 
 
-def binary_phrase(expression, strength):
-    """The text of an expression with an operator of this strength between two others."""
-    least = strength
+def left_least(strength):
+    """How strong the left operand of an operator of this strength has to be."""
     if strength == COMPARISON:
         # A comparison has two sums as operands; other operators are applied from left to right.
-        least = SUM
-    left = phrase(expression[2], least)
-    right = phrase(expression[3], strength + 1)
-    return f"{left} {expression[1]} {right}"
-
-
-def bare_phrase(expression, strength):
-    """The text of an expression of this strength without parentheses around it."""
-    if expression[0] == "binary":
-        return binary_phrase(expression, strength)
-    if expression[0] == "not":
-        return f"not {phrase(expression[1], COMPARISON)}"
-    if expression[0] == "minus":
-        return f"-{phrase(expression[1], ATOM)}"
-    if expression[0] == "call":
-        given = ", ".join([phrase(argument, OR) for argument in expression[2]])
-        return f"{expression[1]}({given})"
-    return str(expression[1])
+        return SUM
+    return strength
 
 
 def phrase(expression, least):
     """The text of an expression, in parentheses if it is weaker than this."""
+    kind = expression[0]
     strength = strength_of(expression)
-    text = bare_phrase(expression, strength)
+    if kind == "binary":
+        left = phrase(expression[2], left_least(strength))
+        right = phrase(expression[3], strength + 1)
+        text = f"{left} {expression[1]} {right}"
+    elif kind == "not":
+        text = f"not {phrase(expression[1], COMPARISON)}"
+    elif kind == "minus":
+        text = f"-{phrase(expression[1], ATOM)}"
+    elif kind == "call":
+        given = ", ".join([phrase(argument, OR) for argument in expression[2]])
+        text = f"{expression[1]}({given})"
+    else:
+        text = str(expression[1])
     if strength < least:
         return f"({text})"
     return text
@@ -53,12 +49,12 @@ def statement_lines(statement):
     word = statement[0]
     if word == "set":
         return [f"{statement[2]} = {phrase(statement[3], OR)}"]
-    condition = phrase(statement[2], OR)
-    if word in ("pour", "pump"):
-        return [f"{word} {condition}, {phrase(statement[3], OR)}"]
+    first = phrase(statement[2], OR)
     if word in ("rain", "dry", "print"):
-        return [f"{word} {condition}"]
-    lines = [f"{word} {condition} " + "{", *block_lines(statement[3])]
+        return [f"{word} {first}"]
+    if word in ("pour", "pump"):
+        return [f"{word} {first}, {phrase(statement[3], OR)}"]
+    lines = [f"{word} {first} " + "{", *block_lines(statement[3])]
     if word == "if" and len(statement[4]) > 0:
         lines.extend(["} else {", *block_lines(statement[4])])
     return lines + ["}"]

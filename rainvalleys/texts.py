@@ -22,7 +22,7 @@ def profile_text(profile):
 
 
 def parsed_column(text):
-    """The height and the width that a text tells, or None if it tells none."""
+    """The height and the width that a text tells, with None, which is neither, for each one that it does not tell."""
     before, sign, behind = text.partition("x")
     height = whole_of(before.removeprefix("-"), MOST_DIGITS)
     if before.startswith("-") and height is not None:
@@ -30,8 +30,6 @@ def parsed_column(text):
     width = 1
     if sign != "":
         width = whole_of(behind, MOST_DIGITS)
-    if height is None or width is None:
-        return None
     return height, width
 
 
@@ -40,10 +38,8 @@ def parse_profile(text):
     if not isinstance(text, str):
         raise ParseError(text)
     columns = [parsed_column(word) for word in text.split(" ")]
-    if any([column is None for column in columns]):
-        raise ParseError(text)
     try:
-        found = Profile([column[0] for column in columns], [column[1] for column in columns])
+        found = Profile([height for height, width in columns], [width for height, width in columns])
     except RainError:
         raise ParseError(text) from None
     # Only one of all the ways to write a profile is its text: "-0" and "3x1" are not.

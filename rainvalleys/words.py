@@ -11,7 +11,7 @@ WEIGHT_DIGITS = 31
 
 def is_name(text):
     """Whether the text is a name: one to eight lowercase letters."""
-    return 1 <= len(text) <= LONGEST_NAME and text.isascii() and text.isalpha() and text.islower()
+    return len(text) <= LONGEST_NAME and text.isascii() and text.isalpha() and text.islower()
 
 
 def whole_of(text, digits):
@@ -22,11 +22,8 @@ def whole_of(text, digits):
 
 
 def weights_of(text):
-    """The weights that are written as this text, or None."""
-    found = tuple([whole_of(word, WEIGHT_DIGITS) for word in text.split(",")])
-    if None in found:
-        return None
-    return found
+    """The weights that are written as this text, with None, which is no weight, for each one that is not."""
+    return tuple([whole_of(word, WEIGHT_DIGITS) for word in text.split(",")])
 
 
 def number_of(text, digits):

@@ -356,8 +356,8 @@ class InvalidCascadeTest(Case):
     def test_names(self):
         for name in ["a", "z", "abcdefgh", "left", "rain"]:
             self.assertEqual(Cascade({name: LOW}, {}).names(), [name])
-        for name in ["", "abcdefghi", "A", "aB", "a1", "1", "a b", " a", "a ", "a_b", "a-b", "a\n", "\n", "\t", "\u00e4",
-                     "\u00df", "\u0101", None, True, 0, 1, b"a", ("a",), ("a", "left"), 10 ** 30]:
+        for name in ["", "abcdefghi", "A", "aB", "a1", "1", "a b", " a", "a ", "a_b", "a-b", "a\n", "\n", "\t",
+                     "\u00e4", "\u00df", "\u0101", None, True, 0, 1, b"a", ("a",), ("a", "left"), 10 ** 30]:
             self.check_refused(None, {name: LOW}, {})
             self.check_refused(None, {"a": LOW, name: LOW}, {})
 
@@ -459,8 +459,8 @@ class ErrorsTest(Case):
             self.check_refused(InvalidColumn, "value", value, "pour", "low", value, -1)
 
     def test_names(self):
-        for value in [None, True, 0, "", "Low", "lo", "low ", "middle", b"low", [], ["low"], (), ("low",), {}, {"low": 1},
-                      {"low"}, Thing(), LOW, Ratio(1), 10 ** 70, Flood(LOW), example(), "x" * 20000]:
+        for value in [None, True, 0, "", "Low", "lo", "low ", "middle", b"low", [], ["low"], (), ("low",), {},
+                      {"low": 1}, {"low"}, Thing(), LOW, Ratio(1), 10 ** 70, Flood(LOW), example(), "x" * 20000]:
             self.check_refused(UnknownName, "name", value, "flood", value)
             self.check_refused(UnknownName, "name", value, "pour", value, 1, 1)
             self.check_refused(UnknownName, "name", value, "pour", value, -1, -1)
@@ -597,7 +597,8 @@ class LimitsTest(Case):
             self.assertEqual(cascade.names(), list(names))
             weights = {names[1]: [chance.choice([0, 1, HUGE]) for _ in range(60)]}
             parts = cascade.clone()
-            fallen = [parts.rain(amount * Ratio(1, 3), weights=weights), parts.rain(amount * Ratio(2, 3), weights=weights)]
+            fallen = [parts.rain(amount * Ratio(1, 3), weights=weights),
+                      parts.rain(amount * Ratio(2, 3), weights=weights)]
             found = cascade.rain(amount, weights=weights)
             self.assertEqual(found, fallen[0] + [(when + amount * Ratio(1, 3), *event) for when, *event in fallen[1]])
             self.assertEqual(cascade, parts)

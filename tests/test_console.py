@@ -14,8 +14,8 @@ from samples import HUGE, Thing
 
 ERRORS = (InvalidColumn, InvalidCommand, InvalidNumber, LimitExceeded, NothingToUndo, UnknownName)
 # A right command for each word.
-COMMANDS = ["new a 3 0 1 0 3x2", "drop a", "names", "rain a 1/2", "pour a 1 2", "pump a 1 2", "dry a 1/3", "undo a", "show a",
-            "depth a 1", "volumes a", "end a", "reach a 1 2"]
+COMMANDS = ["new a 3 0 1 0 3x2", "drop a", "names", "rain a 1/2", "pour a 1 2", "pump a 1 2", "dry a 1/3", "undo a",
+            "show a", "depth a 1", "volumes a", "end a", "reach a 1 2"]
 
 
 def filled_console():
@@ -62,23 +62,25 @@ class CommandsTest(ConsoleCase):
         self.check_answers(Console(), [
             ("names", "-"), ("new pit 9 0 4 1 9", "ok"), ("names", "pit"), ("show pit", "0-0 0 0; 1-1 1 0"),
             ("rain pit 0", "-"), ("rain pit 7/4", "3/2 full 1 1; 7/4 joined 0 1"), ("show pit", "0-1 4 7"),
-            ("pour pit 1 20", "15 full 0 1"), ("show pit", "0-1 9 22 full"), ("pour pit 2 1", "-"), ("volumes pit", "22 31/8 31/8 0"),
-            ("pump pit 3 30", "18"), ("depth pit 1", "4"), ("depth pit 3", "0"), ("depth pit 2", "0"), ("dry pit 3/2", "3/2"),
-            ("volumes pit", "5/2 31/8 31/8 39/2"), ("undo pit", "ok"), ("depth pit 1", "4"), ("undo pit", "ok"),
-            ("show pit", "0-1 9 22 full"), ("end pit", "22 11/2"), ("reach pit 1 4", "7/4"), ("reach pit 2 1/2", "17/8"),
-            ("reach pit 0 1", "never"), ("reach pit 0 0", "0"), ("reach pit 1 9", "11/2"), ("reach pit 1 19/2", "never"),
-            ("drop pit", "ok"), ("names", "-")])
+            ("pour pit 1 20", "15 full 0 1"), ("show pit", "0-1 9 22 full"), ("pour pit 2 1", "-"),
+            ("volumes pit", "22 31/8 31/8 0"), ("pump pit 3 30", "18"), ("depth pit 1", "4"), ("depth pit 3", "0"),
+            ("depth pit 2", "0"), ("dry pit 3/2", "3/2"), ("volumes pit", "5/2 31/8 31/8 39/2"), ("undo pit", "ok"),
+            ("depth pit 1", "4"), ("undo pit", "ok"), ("show pit", "0-1 9 22 full"), ("end pit", "22 11/2"),
+            ("reach pit 1 4", "7/4"), ("reach pit 2 1/2", "17/8"), ("reach pit 0 1", "never"), ("reach pit 0 0", "0"),
+            ("reach pit 1 9", "11/2"), ("reach pit 1 19/2", "never"), ("drop pit", "ok"), ("names", "-")])
 
     def test_no_valleys(self):
-        self.check_answers(Console(), [("new x 5", "ok"), ("show x", "-"), ("rain x 3", "-"), ("volumes x", "0 3/2 3/2 0"),
-                                       ("end x", "0 0"), ("dry x 1", "0"), ("pump x 0 1", "0"), ("reach x 0 1", "never")])
+        self.check_answers(Console(), [("new x 5", "ok"), ("show x", "-"), ("rain x 3", "-"),
+                                       ("volumes x", "0 3/2 3/2 0"), ("end x", "0 0"), ("dry x 1", "0"),
+                                       ("pump x 0 1", "0"), ("reach x 0 1", "never")])
 
     def test_names(self):
         console = Console()
         for name in ("zz", "b", "abcdefgh", "new", "names", "ab", "a"):
             self.assertEqual(console.execute(f"new {name} 1"), "ok")
-        self.check_answers(console, [("names", "a ab abcdefgh b names new zz"), ("drop new", "ok"), ("new names 3 0 3", "ok"),
-                                     ("show names", "0-0 0 0"), ("names", "a ab abcdefgh b names zz")])
+        self.check_answers(console, [("names", "a ab abcdefgh b names new zz"), ("drop new", "ok"),
+                                     ("new names 3 0 3", "ok"), ("show names", "0-0 0 0"),
+                                     ("names", "a ab abcdefgh b names zz")])
 
     def test_new_replaces_a_session(self):
         console = filled_console()
@@ -94,7 +96,8 @@ class CommandsTest(ConsoleCase):
             amount = Ratio(chance.randint(0, 9), 4)
             self.check_answers(console, [
                 (f"new a {profile_text(profile)}", "ok"), (f"rain a {amount}", events_text(flood.rain(amount))),
-                ("show a", flood_text(flood).replace("\n", "; ")), ("end a", f"{end_volume(profile)} {end_amount(profile)}")])
+                ("show a", flood_text(flood).replace("\n", "; ")),
+                ("end a", f"{end_volume(profile)} {end_amount(profile)}")])
 
     def test_the_length(self):
         console = Console()
@@ -126,16 +129,17 @@ class ErrorsTest(ConsoleCase):
         self.check_refused(InvalidCommand, "value", command, command)
 
     def test_values_of_other_kinds(self):
-        for value in [None, True, 0, b"names", [], ["names"], ("names",), {}, {"names"}, Thing(), Ratio(1), Profile([1]),
-                      Session(Profile([1])), Console()]:
+        for value in [None, True, 0, b"names", [], ["names"], ("names",), {}, {"names"}, Thing(), Ratio(1),
+                      Profile([1]), Session(Profile([1])), Console()]:
             self.check_no_command(value)
 
     def test_other_words(self):
-        for command in ["", " ", "  ", "x", "new", "drop", "rain", "Names", "name", "namess", "names a", "names ", " names",
-                        "redo a", "preview a", "history a", "print a", "clone a", "surface a 1", "levels a", "new a", "new a ",
-                        "newa 3 0 3", "drop a b", "undo a 1", "show a 1", "end a 1", "volumes a a", "depth a", "rain a",
-                        "rain a 1 1", "rain a 1 1,1,1,1,1", "pour a 1", "pour a 1 1 1", "pump a 1", "dry a", "dry a 1 1",
-                        "reach a 1", "reach a 1 1 1", "a", "a rain 1", "names\n", "\nnames", "names;", "names;names"]:
+        for command in ["", " ", "  ", "x", "new", "drop", "rain", "Names", "name", "namess", "names a", "names ",
+                        " names", "redo a", "preview a", "history a", "print a", "clone a", "surface a 1", "levels a",
+                        "new a", "new a ", "newa 3 0 3", "drop a b", "undo a 1", "show a 1", "end a 1", "volumes a a",
+                        "depth a", "rain a", "rain a 1 1", "rain a 1 1,1,1,1,1", "pour a 1", "pour a 1 1 1", "pump a 1",
+                        "dry a", "dry a 1 1", "reach a 1", "reach a 1 1 1", "a", "a rain 1", "names\n", "\nnames",
+                        "names;", "names;names"]:
             self.check_no_command(command)
 
     def test_blanks(self):
@@ -150,14 +154,16 @@ class ErrorsTest(ConsoleCase):
                 self.check_no_command(command[:at] + "\n" + command[at + 1:])
 
     def test_forms_of_names(self):
-        for name in ["A", "aB", "a1", "1", "a_b", "a-b", "abcdefghi", "", "\u00e4", "\u00df", "a\n", "a,b", "-", "x.y", "n\u00e4"]:
-            for word in ("new {} 3 0 3", "drop {}", "undo {}", "show {}", "volumes {}", "end {}", "rain {} 1", "dry {} 1",
-                         "pour {} 1 1", "pump {} 1 1", "depth {} 1", "reach {} 1 1"):
+        for name in ["A", "aB", "a1", "1", "a_b", "a-b", "abcdefghi", "", "\u00e4", "\u00df", "a\n", "a,b", "-", "x.y",
+                     "n\u00e4"]:
+            for word in ("new {} 3 0 3", "drop {}", "undo {}", "show {}", "volumes {}", "end {}", "rain {} 1",
+                         "dry {} 1", "pour {} 1 1", "pump {} 1 1", "depth {} 1", "reach {} 1 1"):
                 self.check_no_command(word.format(name))
 
     def test_forms_of_numbers(self):
-        wrong = ["", "x", "01", "-0", "+1", "1/1", "2/4", "1/0", "0/1", "1/-2", "1/", "/2", "1/2/3", "--1", "1.5", "1e3", "1_0", "one",
-                 "\u0663", "1,2", "9" * 61, "1/" + "9" * 61, "-" + "9" * 61, "9" * 61 + "/7", "9" * 5000, "-", "1" + "0" * 60]
+        wrong = ["", "x", "01", "-0", "+1", "1/1", "2/4", "1/0", "0/1", "1/-2", "1/", "/2", "1/2/3", "--1", "1.5",
+                 "1e3", "1_0", "one", "\u0663", "1,2", "9" * 61, "1/" + "9" * 61, "-" + "9" * 61, "9" * 61 + "/7",
+                 "9" * 5000, "-", "1" + "0" * 60]
         for number in wrong:
             for word in ("rain a {}", "dry a {}", "pour a 1 {}", "pump a 1 {}", "reach a 1 {}"):
                 self.check_no_command(word.format(number))
@@ -168,7 +174,8 @@ class ErrorsTest(ConsoleCase):
                 self.assertIs(console.execute(word.format(number)).__class__, str)
 
     def test_forms_of_columns(self):
-        for column in ["", "x", "01", "00", "-0", "-1", "+1", "1/1", "1/2", "1.0", "1_0", "\u0661", "9" * 31, "1" + "0" * 30, "9" * 5000]:
+        for column in ["", "x", "01", "00", "-0", "-1", "+1", "1/1", "1/2", "1.0", "1_0", "\u0661", "9" * 31,
+                       "1" + "0" * 30, "9" * 5000]:
             for word in ("pour a {} 1", "pump a {} 1", "depth a {}", "reach a {} 1"):
                 self.check_no_command(word.format(column))
 
@@ -274,10 +281,11 @@ class DrawnTest(ConsoleCase):
         number = chance.choice(["0", "1", "2", "1/2", "7/3", "10", "-1", "22/7"])
         column = chance.randint(0, 6)
         return chance.choice([
-            f"new {name} {profile_text(chance.choice(profiles))}", f"new {name} {profile_text(chance.choice(profiles))}",
-            "names", f"rain {name} {number}", f"rain {name} {number}", f"pour {name} {column} {number}",
-            f"pump {name} {column} {number}", f"dry {name} {number}", f"undo {name}", f"show {name}", f"depth {name} {column}",
-            f"volumes {name}", f"end {name}", f"reach {name} {column} {number}"] + [f"drop {name}"] * (chance.random() < 0.2))
+            f"new {name} {profile_text(chance.choice(profiles))}",
+            f"new {name} {profile_text(chance.choice(profiles))}", "names", f"rain {name} {number}",
+            f"rain {name} {number}", f"pour {name} {column} {number}", f"pump {name} {column} {number}",
+            f"dry {name} {number}", f"undo {name}", f"show {name}", f"depth {name} {column}", f"volumes {name}",
+            f"end {name}", f"reach {name} {column} {number}"] + [f"drop {name}"] * (chance.random() < 0.2))
 
     def test_drawn_commands(self):
         chance = random.Random(2)

@@ -75,7 +75,8 @@ class JournalTest(Case):
     def test_the_form_of_each_line(self):
         self.assertEqual(bare(journal(busy_session())), [
             "profile 9 0 4 1 9", "rain 1/2 1,0,20,3,1", "pour 3 2", "rain 1", "pump 1 7/3", "dry 1/10"])
-        self.assertEqual(bare(journal(Session(Profile([-3, 0, HUGE], [1, 2, HUGE])))), [f"profile -3 0x2 {HUGE}x{HUGE}"])
+        self.assertEqual(bare(journal(Session(Profile([-3, 0, HUGE], [1, 2, HUGE])))),
+                         [f"profile -3 0x2 {HUGE}x{HUGE}"])
         session = Session(Profile([5]))
         session.rain(0, weights=(7,))
         session.pour(0, HUGE)
@@ -112,14 +113,17 @@ class JournalTest(Case):
 
     def test_1000_digits(self):
         for number in (Ratio(10 ** 1000 - 1), Ratio(1, 10 ** 1000 - 1), Ratio(10 ** 999 - 1, 10 ** 999)):
-            for word, arguments in [("rain", (number,)), ("pour", (0, number)), ("pump", (1, number)), ("dry", (number,))]:
+            for word, arguments in [("rain", (number,)), ("pour", (0, number)), ("pump", (1, number)),
+                                    ("dry", (number,))]:
                 session = Session(Profile([1, 2]))
                 getattr(session, word)(*arguments)
                 self.assertEqual(recovered(journal(session)), (session, 2))
 
     def test_more_than_1000_digits(self):
-        for number in (Ratio(10 ** 1000), Ratio(1, 10 ** 1000), Ratio(10 ** 1000, 3), Ratio(3 * 10 ** 3000 + 1, 10 ** 1001)):
-            for word, arguments in [("rain", (number,)), ("pour", (0, number)), ("pump", (1, number)), ("dry", (number,))]:
+        for number in (Ratio(10 ** 1000), Ratio(1, 10 ** 1000), Ratio(10 ** 1000, 3),
+                       Ratio(3 * 10 ** 3000 + 1, 10 ** 1001), Ratio(1, 10 ** 5000)):
+            for word, arguments in [("rain", (number,)), ("pour", (0, number)), ("pump", (1, number)),
+                                    ("dry", (number,))]:
                 session = Session(Profile([1, 2]))
                 session.rain(1)
                 getattr(session, word)(*arguments)
@@ -177,31 +181,34 @@ class RecoveredTest(Case):
         self.assertEqual(recovered(with_checks(["profile 5"]) + "\n"), (Session(Profile([5])), 1))
 
     def test_values_without_a_valid_first_line(self):
-        for value in [None, True, 0, b"profile 5 #1", [], ["profile 5"], (), {}, Thing(), Ratio(1), Session(PIT), "", "\n",
-                      " ", "#", " #1", "profile", "profile 5", "profile 5 #", "x" * 20000, "#1", "profile 5 #1",
+        for value in [None, True, 0, b"profile 5 #1", [], ["profile 5"], (), {}, Thing(), Ratio(1), Session(PIT), "",
+                      "\n", " ", "#", " #1", "profile", "profile 5", "profile 5 #", "x" * 20000, "#1", "profile 5 #1",
                       "\n" + with_checks(["profile 5"]), " " + with_checks(["profile 5"])]:
             self.check_refused(value)
-        for text in ["", "profile", "profile ", "profile  5", "profile 5 ", " profile 5", "profile x", "profile 5x1", "profile 05",
-                     "profile -0", "profile 5 6x0", "profile 5,6", "profil 5", "profiles 5", "5", "rain 1", "profile 5/1",
-                     "profile " + " ".join(["1"] * 61), f"profile {HUGE + 1}", "profile 5  6", "profile 5-6", "profile " + "9" * 5000]:
+        for text in ["", "profile", "profile ", "profile  5", "profile 5 ", " profile 5", "profile x", "profile 5x1",
+                     "profile 05", "profile -0", "profile 5 6x0", "profile 5,6", "profil 5", "profiles 5", "5",
+                     "rain 1", "profile 5/1", "profile " + " ".join(["1"] * 61), f"profile {HUGE + 1}", "profile 5  6",
+                     "profile 5-6", "profile " + "9" * 5000]:
             self.check_refused(with_checks([text]))
             self.check_refused(with_checks([text, "rain 1"]))
 
     def test_forms_of_operations(self):
-        for text in ["rain 1", "rain 0", "rain 1/2", "rain 3 1,1,1,1,1", "rain 0 0,0,0,0,0", f"rain 1 {HUGE},1,0,12,3", "pour 0 1",
-                     "pour 4 22/7", "pump 1 1", "pump 4 0", "dry 0", "dry 1/2", "rain " + "9" * 1000, "rain 1/" + "9" * 1000]:
+        for text in ["rain 1", "rain 0", "rain 1/2", "rain 3 1,1,1,1,1", "rain 0 0,0,0,0,0", f"rain 1 {HUGE},1,0,12,3",
+                     "pour 0 1", "pour 4 22/7", "pump 1 1", "pump 4 0", "dry 0", "dry 1/2", "rain " + "9" * 1000,
+                     "rain 1/" + "9" * 1000]:
             self.check_lines(["profile 9 0 4 1 9", text, "rain 1"], 3)
 
     def test_lines_that_are_no_operations(self):
-        wrong = ["", " ", "rain", "rain ", "rain  1", "rain 1 ", " rain 1", "rain 1  1,1,1,1,1", "rain 1 -", "rain 1 1,1,1,1",
-                 "rain 1 1,1,1,1,1,1", "rain 1 1,1,1,1,01", "rain 1 1,1,1,1,-1", "rain 1 1,1,1,1,", "rain 1 ,1,1,1,1,1",
-                 "rain 1 1,1,,1,1", "rain 1 1,1,1,1,1/2", "rain 1 1 1 1 1 1", "rain 1 1,1,1,1,1 1", "rain 1 ,", "rain 1 1",
-                 f"rain 1 {HUGE + 1},1,1,1,1", "rain 1 1,1,1,1," + "9" * 5000, "rain -1", "rain -1/2", "rain 01", "rain 1/1",
-                 "rain 2/4", "rain 1/0", "rain -0", "rain 0/1", "rain 1/", "rain /2", "rain 1/-2", "rain 1/2/3", "rain a",
-                 "rain " + "9" * 1001, "rain 1/" + "9" * 1001, "rain " + "9" * 19000, "pour", "pour 1", "pour 1 1 1", "pour 1  1",
-                 "pour 01 1", "pour -0 1", "pour -1 1", "pour 5 1", "pour 1 -1", "pour 1 02", "pour 1/1 1", "pour a 1",
-                 "pour 1 1,1", "pour " + "9" * 40 + " 1", "pour " + "9" * 5000 + " 1", "pump 5 1", "pump 1 -1", "pump 1",
-                 "pump 00 1", "dry", "dry -1", "dry 1 1", "dry 01", "dry  1", "dry 1/1", "profile 9 0 4 1 9", "undo", "undo 1",
+        wrong = ["", " ", "rain", "rain ", "rain  1", "rain 1 ", " rain 1", "rain 1  1,1,1,1,1", "rain 1 -",
+                 "rain 1 1,1,1,1", "rain 1 1,1,1,1,1,1", "rain 1 1,1,1,1,01", "rain 1 1,1,1,1,-1", "rain 1 1,1,1,1,",
+                 "rain 1 ,1,1,1,1,1", "rain 1 1,1,,1,1", "rain 1 1,1,1,1,1/2", "rain 1 1 1 1 1 1", "rain 1 1,1,1,1,1 1",
+                 "rain 1 ,", "rain 1 1", f"rain 1 {HUGE + 1},1,1,1,1", "rain 1 1,1,1,1," + "9" * 5000, "rain -1",
+                 "rain -1/2", "rain 01", "rain 1/1", "rain 2/4", "rain 1/0", "rain -0", "rain 0/1", "rain 1/",
+                 "rain /2", "rain 1/-2", "rain 1/2/3", "rain a", "rain " + "9" * 1001, "rain 1/" + "9" * 1001,
+                 "rain " + "9" * 19000, "pour", "pour 1", "pour 1 1 1", "pour 1  1", "pour 01 1", "pour -0 1",
+                 "pour -1 1", "pour 5 1", "pour 1 -1", "pour 1 02", "pour 1/1 1", "pour a 1", "pour 1 1,1",
+                 "pour " + "9" * 40 + " 1", "pour " + "9" * 5000 + " 1", "pump 5 1", "pump 1 -1", "pump 1", "pump 00 1",
+                 "dry", "dry -1", "dry 1 1", "dry 01", "dry  1", "dry 1/1", "profile 9 0 4 1 9", "undo", "undo 1",
                  "redo", "new a 1", "print 1", "rain1", "ra in 1", "rain,1", "rain/1", "rain-1", "rainx 1"]
         for text in wrong:
             self.check_lines(["profile 9 0 4 1 9", "rain 1", text, "rain 1"], 2)
@@ -221,11 +228,12 @@ class RecoveredTest(Case):
         first, second = with_checks(["profile 9 0 4 1 9", "rain 1"]).split("\n")
         text, number = second.split(" #")
         self.assertEqual(recovered(f"{first}\n{text} #{number}")[1], 2)
-        for wrong in [f"{text} #+{number}", f"{text} #-{number}", f"{text} #0{number}", f"{text}  #{number}", f"{text} # {number}",
-                      f"{text} #{number} ", f"{text}#{number}", f"{text} {number}", f"{text} #", f"{text}", f"{text} ##{number}",
-                      f"{text} #{number}#", f"{text} #{int(number) + 1000003}", f"{text} #{int(number) - 1000003}",
-                      f"{text} #{int(number) + 1}", f"{text} #{number}0", f"{text} #{number}/1", f"{text} #{number}\t",
-                      f"{text} #1 #{number}", f" {text} #{number}", f"{text} #{number}\r", f"{text}\t#{number}", f"#{number}"]:
+        for wrong in [f"{text} #+{number}", f"{text} #-{number}", f"{text} #0{number}", f"{text}  #{number}",
+                      f"{text} # {number}", f"{text} #{number} ", f"{text}#{number}", f"{text} {number}", f"{text} #",
+                      f"{text}", f"{text} ##{number}", f"{text} #{number}#", f"{text} #{int(number) + 1000003}",
+                      f"{text} #{int(number) - 1000003}", f"{text} #{int(number) + 1}", f"{text} #{number}0",
+                      f"{text} #{number}/1", f"{text} #{number}\t", f"{text} #1 #{number}", f" {text} #{number}",
+                      f"{text} #{number}\r", f"{text}\t#{number}", f"#{number}"]:
             self.assertEqual(recovered(f"{first}\n{wrong}"), (Session(PIT), 1))
             self.assertEqual(recovered(f"{first}\n{wrong}\n{second}"), (Session(PIT), 1))
 

@@ -218,8 +218,11 @@ class SyntaxTest(unittest.TestCase):
                 self.assertFalse(node.value.endswith(("._", ".__")))
                 self.assertNotRegex(node.value, "^__.*__$")
         for path, node in nodes(ast.JoinedStr):
-            inner = [part for value in node.values if isinstance(value, ast.FormattedValue) for part in ast.walk(value.value)]
-            self.assertFalse(any(isinstance(part, ast.Constant) and isinstance(part.value, str) for part in inner))
+            for value in node.values:
+                if isinstance(value, ast.FormattedValue):
+                    strings = [part for part in ast.walk(value.value) if isinstance(part, ast.Constant)
+                               and isinstance(part.value, str)]
+                    self.assertEqual(strings, [])
 
     def test_statements_and_operators(self):
         self.assertEqual(nodes(BARRED_NODES), [])

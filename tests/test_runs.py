@@ -131,7 +131,8 @@ class ExpressionsTest(RunCase):
     def test_and_or_not_give_1_or_0(self):
         for text, expected in [("5 and 7", "1"), ("5 and 0", "0"), ("0 and 5", "0"), ("0 or 0", "0"), ("0 or 9", "1"),
                                ("-3 or 0", "1"), ("not 0", "1"), ("not 5", "0"), ("not 1/2", "0"), ("not -1", "0"),
-                               ("not 1 < 2", "0"), ("not 2 < 1 and 3", "1"), ("1 or 0 and 0", "1"), ("1/2 and 1/3", "1")]:
+                               ("not 1 < 2", "0"), ("not 2 < 1 and 3", "1"), ("1 or 0 and 0", "1"),
+                               ("1/2 and 1/3", "1")]:
             self.check_value(text, expected)
 
     def test_the_right_operand_only_if_the_left_one_does_not_decide(self):
@@ -171,15 +172,16 @@ class ExpressionsTest(RunCase):
     def test_calls_for_numbers(self):
         for text, expected in [("floor(7/2)", "3"), ("floor(-7/2)", "-4"), ("floor(5)", "5"), ("abs(-1/3)", "1/3"),
                                ("abs(2)", "2"), ("min(1/2, 1/3)", "1/3"), ("min(1/3, 1/2)", "1/3"), ("min(2, 2)", "2"),
-                               ("max(1/2, 1/3)", "1/2"), ("max(-5, -7)", "-5"), ("max(-7, -5)", "-5"), ("max(0, 0)", "0"),
-                               ("max(min(1, 2), abs(floor(-5/2)))", "3")]:
+                               ("max(1/2, 1/3)", "1/2"), ("max(-5, -7)", "-5"), ("max(-7, -5)", "-5"),
+                               ("max(0, 0)", "0"), ("max(min(1, 2), abs(floor(-5/2)))", "3")]:
             self.check_value(text, expected)
 
 
 class ErrorsTest(RunCase):
     def test_those_of_parse_script_come_first(self):
-        for text, line in [("rain", 1), ("rain 1\n\n!", 3), ("\n}", 2), ("if 1 {\n", 2), (" " * 4001, None), (None, None),
-                           (b"rain 1", None), (["rain 1"], None), (5, None), (True, None), (Thing(), None)]:
+        for text, line in [("rain", 1), ("rain 1\n\n!", 3), ("\n}", 2), ("if 1 {\n", 2), (" " * 4001, None),
+                           (None, None), (b"rain 1", None), (["rain 1"], None), (5, None), (True, None),
+                           (Thing(), None)]:
             for limit in (1, 0, None):
                 self.check_fails(ScriptError, "line", line, text, limit=limit)
 
@@ -192,8 +194,9 @@ class ErrorsTest(RunCase):
         self.check_prints("", [], limit=1)
 
     def test_unknown_names(self):
-        for text in ["print x", "x = x", "x = x + 1", "rain 1; if x { }", "repeat 2 { rain x }", "while 1 { pour 1, x }",
-                     "if 0 { x = 1 }; print x", "repeat 0 { x = 1 }; print x", "print depth(x)", "print -x", "print not x"]:
+        for text in ["print x", "x = x", "x = x + 1", "rain 1; if x { }", "repeat 2 { rain x }",
+                     "while 1 { pour 1, x }", "if 0 { x = 1 }; print x", "repeat 0 { x = 1 }; print x",
+                     "print depth(x)", "print -x", "print not x"]:
             self.check_fails(UnknownName, "name", "x", text)
         self.check_fails(UnknownName, "name", "depth", "print depth")
         self.check_fails(UnknownName, "name", "a", "print a + b")
@@ -210,7 +213,8 @@ class ErrorsTest(RunCase):
     def test_columns_and_valleys(self):
         for text, value in [("6", Ratio(6)), ("-1", Ratio(-1)), ("1/2", Ratio(1, 2)), ("9" * 60, Ratio(10 ** 60 - 1)),
                             ("-1/2", Ratio(-1, 2)), ("11/2", Ratio(11, 2))]:
-            for call in ("print depth({})", "print surface({})", "pour {}, 1", "pump {}, 1", "pour {}, -1", "pump {}, -1"):
+            for call in ("print depth({})", "print surface({})", "pour {}, 1", "pump {}, 1", "pour {}, -1",
+                         "pump {}, -1"):
                 self.check_fails(InvalidColumn, "value", value, "rain 1\n" + call.format(text))
         for text, value in [("2", Ratio(2)), ("-1", Ratio(-1)), ("1/2", Ratio(1, 2)), ("5", Ratio(5))]:
             for call in ("print level({})", "print full({})"):
@@ -254,10 +258,11 @@ class StepsTest(RunCase):
                 self.check_fails(LimitExceeded, "limit", limit, text, limit=limit)
 
     def test_the_beginning_of_each_statement_and_of_each_round(self):
-        for text, steps in [("", 0), ("rain 1", 1), ("rain 1; dry 1; a = 1", 3), ("if 1 { }", 1), ("if 0 { rain 1 }", 1),
-                            ("if 1 { rain 1; rain 1 }", 3), ("if 0 { } else { rain 1 }", 2), ("repeat 0 { rain 1 }", 1),
-                            ("repeat 3 { }", 4), ("repeat 3 { rain 1 }", 7), ("repeat 2 { repeat 2 { a = 1 } }", 13),
-                            ("while 0 { rain 1 }", 1), ("n = 3; while n { n = n - 1 }", 8), ("n = 1; while n { n = 0 }", 4),
+        for text, steps in [("", 0), ("rain 1", 1), ("rain 1; dry 1; a = 1", 3), ("if 1 { }", 1),
+                            ("if 0 { rain 1 }", 1), ("if 1 { rain 1; rain 1 }", 3), ("if 0 { } else { rain 1 }", 2),
+                            ("repeat 0 { rain 1 }", 1), ("repeat 3 { }", 4), ("repeat 3 { rain 1 }", 7),
+                            ("repeat 2 { repeat 2 { a = 1 } }", 13), ("while 0 { rain 1 }", 1),
+                            ("n = 3; while n { n = n - 1 }", 8), ("n = 1; while n { n = 0 }", 4),
                             ("n = 2; while n { n = n - 1; if n { repeat 2 { } } }", 11)]:
             self.check_steps(text, steps)
 
@@ -351,7 +356,8 @@ class DrawnTest(RunCase):
                 parts = [("number", chance.randint(0, 4)), self.tamed(chance, parts[1])]
             elif word == "while":
                 parts = [("binary", "<", ("name", "a"), ("number", 9)),
-                         [("set", None, "a", ("binary", "+", ("name", "a"), ("number", 3))), *self.tamed(chance, parts[1])]]
+                         [("set", None, "a", ("binary", "+", ("name", "a"), ("number", 3))),
+                          *self.tamed(chance, parts[1])]]
             elif word == "if":
                 parts = [parts[0], *[self.tamed(chance, part) for part in parts[1:]]]
             found.append((word, line, *parts))

@@ -238,10 +238,11 @@ class StatementsTest(ScriptCase):
         self.assertEqual(one("rain(1)"), ("rain", 1, ("number", 1)))
 
     def test_wrong_beginnings(self):
-        for text in ["1", "(a) = 1", "+", "= 1", ", 1", "{ }", "}", "a", "a 1", "a == 1", "a + 1", "depth(1)", "a, b = 1",
-                     "a = b = 1", "a = 1, 2", "rain", "rain,", "rain 1, 2", "pour 1", "pour 1 2", "pour 1, 2, 3", "pour , 1",
-                     "dry { }", "print", "print 1 2", "if { }", "if 1", "repeat 3", "repeat { }", "while 1 rain 1",
-                     "if 1 { rain 1", "rain = 1", "a = ()", "a = (1", "a = 1)", "a = (1}", "if (1 { }", "a = {1}"]:
+        for text in ["1", "(a) = 1", "+", "= 1", ", 1", "{ }", "}", "a", "a 1", "a == 1", "a + 1", "depth(1)",
+                     "a, b = 1", "a = b = 1", "a = 1, 2", "rain", "rain,", "rain 1, 2", "pour 1", "pour 1 2",
+                     "pour 1, 2, 3", "pour , 1", "dry { }", "print", "print 1 2", "if { }", "if 1", "repeat 3",
+                     "repeat { }", "while 1 rain 1", "if 1 { rain 1", "rain = 1", "a = ()", "a = (1", "a = 1)",
+                     "a = (1}", "if (1 { }", "a = {1}"]:
             self.check_wrong(1, text)
             self.check_wrong(3, "\n\n" + text)
 
@@ -263,12 +264,13 @@ class ExpressionsTest(ScriptCase):
                 ("-(a * b)", "[-[a * b]]"), ("-(-a)", "[-[-a]]"), ("-min(a, b)", "[-min(a, b)]"),
                 ("a < b + 1", "[a < [b + 1]]"), ("a + 1 < b", "[[a + 1] < b]"), ("a and b or c", "[[a and b] or c]"),
                 ("a or b and c", "[a or [b and c]]"), ("(a or b) and c", "[[a or b] and c]"),
-                ("not a and b", "[[not a] and b]"), ("not (a and b)", "[not [a and b]]"), ("not a < b", "[not [a < b]]"),
-                ("not a + b", "[not [a + b]]"), ("a and not b", "[a and [not b]]"), ("a or not b or c", "[[a or [not b]] or c]"),
-                ("not (not a)", "[not [not a]]"), ("(not a) + b", "[[not a] + b]"), ("(a < b) < c", "[[a < b] < c]"),
-                ("a < (b < c)", "[a < [b < c]]"), ("a < b and c < d", "[[a < b] and [c < d]]"),
-                ("not a < b or not c == d and e", "[[not [a < b]] or [[not [c == d]] and e]]"),
-                ("((a))", "a"), ("-(1)", "[-1]"), ("- 1", "[-1]"), ("(a) (", None)]:
+                ("not a and b", "[[not a] and b]"), ("not (a and b)", "[not [a and b]]"),
+                ("not a < b", "[not [a < b]]"), ("not a + b", "[not [a + b]]"), ("a and not b", "[a and [not b]]"),
+                ("a or not b or c", "[[a or [not b]] or c]"), ("not (not a)", "[not [not a]]"),
+                ("(not a) + b", "[[not a] + b]"), ("(a < b) < c", "[[a < b] < c]"), ("a < (b < c)", "[a < [b < c]]"),
+                ("a < b and c < d", "[[a < b] and [c < d]]"),
+                ("not a < b or not c == d and e", "[[not [a < b]] or [[not [c == d]] and e]]"), ("((a))", "a"),
+                ("-(1)", "[-1]"), ("- 1", "[-1]"), ("(a) (", None)]:
             if expected is None:
                 self.check_wrong(1, "x = " + text)
             else:
@@ -292,7 +294,8 @@ class ExpressionsTest(ScriptCase):
 
     def test_not_and_minus(self):
         for text in ["not not a", "--a", "- - a", "-not a", "not", "-", "a + not b", "a * not b", "a < not b", "- -1",
-                     "not a < not b", "-(-)", "a not b", "a -", "(not) a", "a - - - b", "not -- a", "+a", "a ++ b", "a * / b"]:
+                     "not a < not b", "-(-)", "a not b", "a -", "(not) a", "a - - - b", "not -- a", "+a", "a ++ b",
+                     "a * / b"]:
             self.check_wrong_everywhere("x = " + text)
         self.assertEqual(show(value("not -a")), "[not [-a]]")
         self.assertEqual(show(value("not a - -b")), "[not [a - [-b]]]")
@@ -334,8 +337,8 @@ class ExpressionsTest(ScriptCase):
 class WrongScriptsTest(ScriptCase):
     def test_the_end_of_an_incomplete_script(self):
         for text in ["if 1 {", "if 1 { a = 1", "repeat 2 {\nrain 1\n", "while 1 {\n\n\n", "if 1 {\n} else {\n\n# }",
-                     "a = 1\nif 1 { repeat 2 { }", "rain", "a = 1\nrain", "a = 1; b", "print 1 +", "\n\npour 1,", "a = min(1",
-                     "print (", "if 1 { }\nif 1", "if 1 { } else"]:
+                     "a = 1\nif 1 { repeat 2 { }", "rain", "a = 1\nrain", "a = 1; b", "print 1 +", "\n\npour 1,",
+                     "a = min(1", "print (", "if 1 { }\nif 1", "if 1 { } else"]:
             self.check_wrong(1 + text.count("\n"), text)
             if text.endswith(("{", "\n", "}")) or "#" in text:
                 self.check_wrong(3 + text.count("\n"), text + "\n\n")
@@ -427,7 +430,8 @@ class WrongScriptsTest(ScriptCase):
         for _ in range(chance.choice([0, 1, 1, 2])):
             at = chance.randint(0, len(text))
             length = chance.choice([0, 1, 1, 2, 5])
-            piece = chance.choice(["", text[at:at + length] * 2, f" {chance.choice(PIECES)} ", chance.choice("a1 ;\n(){}")])
+            piece = chance.choice(["", text[at:at + length] * 2, f" {chance.choice(PIECES)} ",
+                                   chance.choice("a1 ;\n(){}")])
             text = text[:at] + piece + text[at + length:]
         return text
 
@@ -473,13 +477,44 @@ class TextTest(ScriptCase):
             self.assertFalse(any(";" in line or "#" in line for line in lines))
 
     def test_parentheses_where_they_are_needed(self):
-        for text in ["(a + b) * c", "a - (b - c)", "-(a + b)", "-(-a)", "not (not a)", "(a < b) == (c < d)", "a < (b < c)",
-                     "(not a) + b", "(not a) * (not b)", "-(not a)", "not (a or b)", "(a or b) and c", "a and (b and c)",
-                     "a / (b * c)", "a * (b / c)", "(not a) < b", "a < (not b)", "-(a < b)", "abs((not a) < b)", "a + -(b + c)",
-                     "a - (-b)", "(a and b) + 1", "not (a and b) or c", "min(a or b, not c)", "a or (b or c)", "(a or b) or c"]:
+        for text in ["(a + b) * c", "a - (b - c)", "-(a + b)", "-(-a)", "not (not a)", "(a < b) == (c < d)",
+                     "a < (b < c)", "(not a) + b", "(not a) * (not b)", "-(not a)", "not (a or b)", "(a or b) and c",
+                     "a and (b and c)", "a / (b * c)", "a * (b / c)", "(not a) < b", "a < (not b)", "-(a < b)",
+                     "abs((not a) < b)", "a + -(b + c)", "a - (-b)", "(a and b) + 1", "not (a and b) or c",
+                     "min(a or b, not c)", "a or (b or c)", "(a or b) or c"]:
             statements = parse_script("x = " + text)
             again = self.check_there_and_back(statements)
             self.assertLessEqual(again.count("("), text.count("("))
+
+    def test_no_parentheses_where_they_are_not_needed(self):
+        for text in ["a + b * c", "a * b + c", "a * -b", "-a * -b", "a - -b", "-a - b", "-a", "not -a",
+                     "not a and not b", "a or not b", "a or b and c", "a and b or c", "a < b and c >= d", "not a < b",
+                     "not a + b == -c * d", "a - b - c", "a / b / c * d", "a and b and c", "a or b or c", "-abs(-a)",
+                     "min(a or b, not c)", "depth(a + 1) * 2 < 3 and not full(0)",
+                     "a == b or not c != d and e <= f + g / -h"]:
+            self.assertEqual(script_text(parse_script("x = " + text)), "x = " + text)
+
+    def test_all_parentheses_are_needed(self):
+        """So no more brackets are open at a time than in any other text of the same statements."""
+        chance = random.Random(7)
+        for _ in range(400):
+            tree = expression(chance, 4)
+            text = script_text([("print", 1, tree)])
+            for at, sign in enumerate(text):
+                if sign == "(" and not text[at - 1].isalpha():
+                    self.check_needed(text, at, tree)
+
+    def check_needed(self, text, at, tree):
+        """Without the pair of brackets that opens here the text says something else."""
+        depth, end = 1, at
+        while depth > 0:
+            end += 1
+            depth += {"(": 1, ")": -1}.get(text[end], 0)
+        shorter = text[:at] + " " + text[at + 1:end] + " " + text[end + 1:]
+        try:
+            self.assertNotEqual(parse_script(shorter), [("print", 1, tree)])
+        except ScriptError:
+            pass
 
     def test_drawn_expressions(self):
         chance = random.Random(5)

@@ -382,7 +382,8 @@ class PreviewTest(Case):
             before = state(session)
             steps = operations(chance, profile, 5)
             found = session.preview([as_tuple(operation) for operation in steps])
-            self.assertEqual([result(part) for part in found], [result(perform(flood, operation)) for operation in steps])
+            self.assertEqual([result(part) for part in found],
+                             [result(perform(flood, operation)) for operation in steps])
             self.assertEqual(state(session), before)
 
     def test_lists_of_weights_and_integers(self):

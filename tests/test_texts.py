@@ -50,7 +50,8 @@ class ProfileTextTest(Case):
 
     def test_there_and_back(self):
         chance = random.Random(1)
-        large = [Profile([chance.randint(-HUGE, HUGE) for _ in range(60)], [chance.randint(1, HUGE) for _ in range(60)]),
+        large = [Profile([chance.randint(-HUGE, HUGE) for _ in range(60)],
+                         [chance.randint(1, HUGE) for _ in range(60)]),
                  Profile([0] * 60), Profile([-HUGE] * 60, [HUGE] * 60)]
         for profile in profiles(1, 40) + large:
             text = profile_text(profile)
@@ -68,17 +69,17 @@ class ParseProfileTest(Case):
         self.check_error(ParseError, "value", value, parse_profile, value)
 
     def test_texts_of_no_profile(self):
-        for text in ["", " ", "  ", "x", "x2", "3x", "3x1", "3x0", "3x-2", "3x02", "3x2x2", "3xx2", "-0", "00", "03", "-03", "+3",
-                     "--3", "3-", "-", " 3", "3 ", "3  4", "3\t4", "3\n4", "3\n", "3,4", "3 4 x", "3 X2", "3X2", "3.0", "3/1",
-                     "1/2", "1e3", "1_0", "-0x2", "3 x2", "3x 2", "a", "None", "[3]", "\u0663", "3x\u0662", "\u00b2",
-                     "3x+2", "3x2 ", "-x2", "3x2-"]:
+        for text in ["", " ", "  ", "x", "x2", "3x", "3x1", "3x0", "3x-2", "3x02", "3x2x2", "3xx2", "-0", "00", "03",
+                     "-03", "+3", "--3", "3-", "-", " 3", "3 ", "3  4", "3\t4", "3\n4", "3\n", "3,4", "3 4 x", "3 X2",
+                     "3X2", "3.0", "3/1", "1/2", "1e3", "1_0", "-0x2", "3 x2", "3x 2", "a", "None", "[3]", "\u0663",
+                     "3x\u0662", "\u00b2", "3x+2", "3x2 ", "-x2", "3x2-"]:
             self.check_refused(text)
         # What looks like a number of another kind is a column of the height 0.
         self.assertEqual(parse_profile("0x10"), Profile([0], [10]))
 
     def test_numbers_out_of_range(self):
-        for text in [str(HUGE + 1), str(-HUGE - 1), f"0x{HUGE + 1}", f"3 0 {HUGE + 1}", "9" * 31, "9" * 5000, "-" + "9" * 19999,
-                     "3x" + "9" * 19998, "0" * 20000, "1" + "0" * 31]:
+        for text in [str(HUGE + 1), str(-HUGE - 1), f"0x{HUGE + 1}", f"3 0 {HUGE + 1}", "9" * 31, "9" * 5000,
+                     "-" + "9" * 19999, "3x" + "9" * 19998, "0" * 20000, "1" + "0" * 31]:
             self.check_refused(text)
 
     def test_the_number_of_columns(self):
